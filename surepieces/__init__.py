@@ -1,0 +1,1 @@
+"""Surepieces: what stands in every ring text that has just these windows."""

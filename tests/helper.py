@@ -1,0 +1,191 @@
+"""What several test files need: books, objects of all kinds, and plain looks at what the document says.
+
+The plain looks are slow and use nothing of the package.
+"""
+
+from itertools import product
+
+BOOK = (2, ("ab", "bc", "bd", "ca", "da"))
+NO_RING = (2, ("ab", "bb"))
+SMALL_LETTERS = "abcdefghijklmnopqrstuvwxyz"
+
+
+def nested(kind, depth):
+    """A list or tuple, nested so deep."""
+    value = kind([])
+    for _ in range(depth - 1):
+        value = kind([value])
+    return value
+
+
+def some_function():
+    return None
+
+
+def odd_objects():
+    """New objects of all kinds; none of them is a book, a ring text, a size, a piece, a leaving or a paper."""
+    twice = ["ab"]
+    return [
+        None, True, False, 0, 1, -1, 7, 10 ** 40, "", "A", "aB", "a b", "a\n", "\n", "a-b", "a1", "`", "{", "~", " ",
+        b"", b"ab", b"abcabd", [], ["ab"], ["ab", ["bc"]], [twice, twice], [True], ("ab", ["bc"], [["ca"]]),
+        (2, ["ab"]), [2, ("ab",)], (twice, twice), {}, {"ab": 1}, {"ab": ["bc"]}, {"ab"}, set(), frozenset(["ab"]),
+        range(3), some_function, int, object(), nested(list, 100), nested(tuple, 100), (None,), ("ab", None),
+        (("ab",), ("bc", 2)), [{"a": ()}], (set(),), bytearray(b"ab"), Ellipsis,
+    ]
+
+
+def faulty_books():
+    """New objects that are no books, among them those that nearly are."""
+    return odd_objects() + [
+        "ab", 2, (), (2,), ("ab",), (2, ("ab",), ()), (("ab",), 2), [2, ("ab",)], (2, ["ab"]), {2: ("ab",)},
+        ("2", ("ab",)), (None, ("ab",)), (True, ("a",)), (0, ("",)), (1, ("a",)), (7, ("abcdefg",)), (-2, ("ab",)),
+        (2, ()), (2, None), (2, "ab"), (2, b"ab"), (2, {"ab": 1}), (2, {"ab"}), (2, frozenset(["ab"])), (2, range(2)),
+        (2, ("ab", "ab")), (2, ("bc", "ab")), (2, ("ab", "bc", "ba")), (2, ("ab", "abc")), (2, ("a",)), (3, ("ab",)),
+        (2, ("aB",)), (2, ("AB",)), (2, ("a ",)), (2, ("a1",)), (2, ("a\n",)), (2, ("a`",)), (2, ("a{",)), (2, ("  ",)),
+        (2, (b"ab",)), (2, (("a", "b"),)), (2, (["a", "b"],)), (2, ("ab", 3)), (2, (3, "ab")), (2, ("ab", None)),
+        (2, ("ab", ["bc"])), (2, ("ab", ("bc",))), (2, (nested(list, 98),)), (nested(list, 99), ("ab",)), (2, (True,)),
+    ]
+
+
+def same(one, other):
+    """Whether two objects are alike, kinds and all."""
+    if type(one) is not type(other):
+        return False
+    if isinstance(one, (list, tuple)):
+        return len(one) == len(other) and all(same(a, b) for a, b in zip(one, other))
+    return one is other or one == other
+
+
+def lists_in(value):
+    """The ids of the lists in an object, as often as they stand there, but for those in dicts and sets."""
+    if not isinstance(value, (list, tuple)):
+        return []
+    own = [id(value)] if isinstance(value, list) else []
+    return own + [number for item in value for number in lists_in(item)]
+
+
+def assert_refused(case, error, value, function, /, *args, **named):
+    """A call raises just this error, with the value as it was, built anew."""
+    before = repr((args, named))
+    with case.assertRaises(error) as caught:
+        function(*args, **named)
+    told = caught.exception.value
+    case.assertIs(type(caught.exception), error, (function, args, named))
+    case.assertTrue(same(told, value), (function, told, value))
+    case.assertEqual(repr((args, named)), before)
+    case.assertEqual(len(set(lists_in(told))), len(lists_in(told)), "a list stands in two places")
+    case.assertFalse(set(lists_in(told)) & set(lists_in(value)), "a list is kept")
+    if isinstance(value, (list, tuple)) and value:
+        case.assertIsNot(told, value)
+
+
+def small_books(size, letters):
+    """All books of a size with windows of these letters."""
+    windows = ["".join(letter) for letter in product(letters, repeat=size)]
+    for number in range(1, 1 << len(windows)):
+        yield (size, tuple(window for at, window in enumerate(windows) if number >> at & 1))
+
+
+def pieces(book, longest):
+    """All pieces of a book of at most so many letters, short ones first."""
+    size, windows = book
+    front = list(windows) if size <= longest else []
+    while front:
+        yield from front
+        if len(front[0]) == longest:
+            return
+        front = [piece + window[-1] for piece in front for window in windows if window[:-1] == piece[1 - size:]]
+
+
+def random_piece(rng, book, steps):
+    """A piece with so many steps that takes any window each time."""
+    piece = rng.choice(book[1])
+    for _ in range(steps - 1):
+        piece += rng.choice([window[-1] for window in book[1] if window[:-1] == piece[1 - book[0]:]])
+    return piece
+
+
+def plain_places(book):
+    return sorted({window[:-1] for window in book[1]} | {window[1:] for window in book[1]})
+
+
+def plain_windows(size, ring):
+    """The windows of a ring text, read letter by letter."""
+    return sorted({"".join(ring[(at + k) % len(ring)] for k in range(size)) for at in range(len(ring))})
+
+
+def plain_fits(book, ring):
+    return plain_windows(book[0], ring) == list(book[1])
+
+
+def plain_stands(ring, piece):
+    return any(all(ring[(at + k) % len(ring)] == letter for k, letter in enumerate(piece)) for at in range(len(ring)))
+
+
+def plain_rings(size, letters, longest):
+    """All ring texts of these letters up to so many, by the tuple of their windows."""
+    found = {}
+    for length in range(1, longest + 1):
+        for row in product(letters, repeat=length):
+            ring = "".join(row)
+            found.setdefault(tuple(plain_windows(size, ring)), []).append(ring)
+    return found
+
+
+def plain_closed_lot(book, value):
+    spots = plain_places(book)
+    if not isinstance(value, tuple) or not value or list(value) != sorted(set(value)) or list(value) == spots:
+        return False
+    return all(place in spots for place in value) and all(
+        window[1:] in value for window in book[1] if window[:-1] in value)
+
+
+def plain_leaving(book, piece, value):
+    """Whether a tuple of two integers and a text is a leaving, word by word as point [5] has it."""
+    size, windows = book
+    i, j, way = value
+    steps = [piece[at:at + size] for at in range(len(piece) - size + 1)]
+    if not (1 <= i and i <= j and j <= len(steps) - 1):
+        return False
+    own = [way[at:at + size] for at in range(len(way) - size + 1)]
+    if not own or any(step not in windows for step in own):
+        return False
+    spots = [way[at:at + size - 1] for at in range(len(way) - size + 2)]
+    first, last = steps[j][:-1], steps[i - 1][1:]
+    if own[0] == steps[j] or own[-1] == steps[i - 1] or spots[0] != first or spots[-1] != last:
+        return False
+    inner = spots[1:-1]
+    if first in inner or last in inner or (first != last and (first == spots[-1] or last == spots[0])):
+        return False
+    return all(inner.count(place) == 1 for place in inner)
+
+
+def plain_paper(book, piece, value):
+    """Whether a tuple of tuples of texts is a paper, word by word as point [11] has it."""
+    size, windows = book
+    steps = [piece[at:at + size] for at in range(len(piece) - size + 1)]
+    n = len(steps) - 1
+    pairs = sorted(((i, j) for i in range(1, n + 1) for j in range(i, n + 1)), key=lambda pair: (pair[1], pair[0]))
+    if len(value) != len(pairs):
+        return False
+    for (i, j), lot in zip(pairs, value):
+        into, out = steps[i - 1], steps[j]
+        if list(lot) != sorted(set(lot)) or not set(lot) <= set(windows):
+            return False
+        if any(window not in lot for window in windows if window != out and window[:-1] == out[:-1]):
+            return False
+        for window in lot:
+            if window[1:] == into[1:] and window != into:
+                return False
+            if window[1:] not in (into[1:], out[:-1]) and any(
+                    other not in lot for other in windows if other[:-1] == window[1:]):
+                return False
+    return True
+
+
+def plain_leavings(book, piece):
+    """All leavings of a piece, by trying all pieces that could be a way."""
+    n = len(piece) - book[0]
+    longest = book[0] + len(plain_places(book))
+    return [(i, j, way) for way in pieces(book, longest) for j in range(1, n + 1) for i in range(1, j + 1)
+            if plain_leaving(book, piece, (i, j, way))]

@@ -1,0 +1,126 @@
+"""The form of the package: its interface, and rules of the language that a look at the source can tell."""
+
+import ast
+import builtins
+import importlib
+import inspect
+import os
+import unittest
+
+ROOT = os.path.dirname(os.path.dirname(os.path.abspath(__file__)))
+PACKAGE = os.path.join(ROOT, "surepieces")
+
+# The functions of the interface that are there, with the names of their parameters.
+INTERFACE = {
+    "books": {
+        "is_book": ["value"], "is_ring": ["value"], "is_piece": ["book", "value"], "places": ["book"],
+        "windows_of": ["size", "text"], "ring_windows": ["size", "ring"], "fits": ["book", "ring"],
+        "stands_in": ["ring", "piece"], "least_turn": ["ring"], "way": ["book", "one", "other"],
+        "has_ring": ["book"], "some_ring": ["book"], "closed_lot": ["book"], "is_closed_lot": ["book", "value"],
+    },
+    "sure": {
+        "is_sure": ["book", "piece"], "leaving": ["book", "piece"], "is_leaving": ["book", "piece", "value"],
+        "without": ["book", "piece"], "sure_paper": ["book", "piece"], "paper_holds": ["book", "piece", "value"],
+    },
+}
+BUILTINS = [
+    "len", "range", "enumerate", "zip", "min", "max", "sum", "abs", "sorted", "reversed", "int", "str", "bool", "list",
+    "tuple", "dict", "set", "isinstance", "ord", "repr", "any", "all", "divmod", "ValueError",
+]
+METHODS = [
+    "append", "endswith", "extend", "find", "get", "index", "insert", "items", "join", "keys", "pop", "remove",
+    "reverse", "setdefault", "split", "startswith", "update", "values",
+]
+
+
+def sources():
+    """The name, the text and the tree of each file of the package."""
+    found = []
+    for name in sorted(os.listdir(PACKAGE)):
+        if name != "__pycache__":
+            with open(os.path.join(PACKAGE, name), encoding="utf-8") as file:
+                text = file.read()
+            found.append((name, text, ast.parse(text)))
+    return found
+
+
+class InterfaceTest(unittest.TestCase):
+    def test_each_function_is_defined_in_its_file(self):
+        trees = {name: tree for name, _, tree in sources()}
+        for module, functions in INTERFACE.items():
+            own = [node.name for node in trees[module + ".py"].body if isinstance(node, ast.FunctionDef)]
+            for name in functions:
+                self.assertEqual(own.count(name), 1, name)
+
+    def test_parameters(self):
+        for module, functions in INTERFACE.items():
+            loaded = importlib.import_module("surepieces." + module)
+            for name, parameters in functions.items():
+                told = inspect.signature(getattr(loaded, name)).parameters.values()
+                self.assertEqual([parameter.name for parameter in told], parameters)
+                for parameter in told:
+                    self.assertIs(parameter.kind, inspect.Parameter.POSITIONAL_OR_KEYWORD)
+                    self.assertIs(parameter.default, inspect.Parameter.empty)
+
+
+class FormTest(unittest.TestCase):
+    def test_files(self):
+        for name, text, _ in sources():
+            self.assertTrue(name.endswith(".py") and name == name.lower(), name)
+            self.assertTrue(all(sign == "\n" or " " <= sign <= "~" for sign in text), name)
+            lines = text.split("\n")
+            self.assertLess(len(lines), 400, name)
+            self.assertLessEqual(max(len(line) for line in lines), 120, name)
+
+    def test_functions_are_short(self):
+        for name, _, tree in sources():
+            for node in ast.walk(tree):
+                if isinstance(node, ast.FunctionDef):
+                    self.assertLessEqual(node.end_lineno - node.lineno + 1, 40, node.name)
+                    self.assertFalse(node.decorator_list)
+                    self.assertIsNotNone(ast.get_docstring(node) if node.name != "__init__" else "", node.name)
+
+    def test_modules_hold_definitions_alone(self):
+        for name, _, tree in sources():
+            self.assertIsNotNone(ast.get_docstring(tree), name)
+            for node in tree.body[1:]:
+                self.assertIsInstance(node, (ast.ImportFrom, ast.FunctionDef, ast.ClassDef), name)
+                if isinstance(node, ast.ImportFrom):
+                    self.assertTrue(node.module.startswith("surepieces.") and node.level == 0, name)
+                    self.assertTrue(all(alias.name != "*" and alias.asname is None for alias in node.names))
+
+    def test_names_and_methods(self):
+        barred = [name for name in dir(builtins) if not name.startswith("_")]
+        for name, _, tree in sources():
+            for node in ast.walk(tree):
+                if isinstance(node, ast.Name):
+                    self.assertTrue(node.id not in barred or node.id in BUILTINS, (name, node.id))
+                    self.assertTrue(isinstance(node.ctx, ast.Load) or node.id not in barred, (name, node.id))
+                if isinstance(node, ast.Call) and isinstance(node.func, ast.Attribute):
+                    self.assertIn(node.func.attr, METHODS, name)
+                if isinstance(node, (ast.FunctionDef, ast.arg)):
+                    own = node.name if isinstance(node, ast.FunctionDef) else node.arg
+                    self.assertNotIn(own, barred, name)
+
+    def test_no_floats_and_no_other_statements(self):
+        barred = (ast.Div, ast.Global, ast.Nonlocal, ast.AsyncFunctionDef, ast.Yield, ast.YieldFrom, ast.Try, ast.Lambda)
+        for name, _, tree in sources():
+            for node in ast.walk(tree):
+                self.assertNotIsInstance(node, barred, name)
+                if isinstance(node, ast.Constant):
+                    self.assertNotIsInstance(node.value, (float, complex), name)
+
+    def test_imports_go_round_nowhere(self):
+        below = {}
+        for name, _, tree in sources():
+            imports = [node.module.split(".")[1] for node in tree.body if isinstance(node, ast.ImportFrom)]
+            below[name[:-3]] = imports
+        done = []
+        while len(done) < len(below):
+            ready = [name for name in below if name not in done and all(other in done for other in below[name])]
+            self.assertTrue(ready, below)
+            done.extend(ready)
+
+
+if __name__ == "__main__":
+    unittest.main()
