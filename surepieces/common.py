@@ -91,6 +91,15 @@ def trail(came, end):
 
 def ring_without(book, pieces):
     """Returns a ring text that fits a book and in which none of a list of pieces stands, None if there is none."""
+    lot = lot_without(book, pieces)
+    return None if lot is None else ring_through(book, lot)
+
+
+def lot_without(book, pieces):
+    """Returns links along which all windows but none of a list of pieces are read, None if there are none.
+
+    They are all the links among states that lead to one another.
+    """
     links = state_links(book, pieces)
     back = turned(links)
     done = {}
@@ -99,7 +108,7 @@ def ring_without(book, pieces):
             lot = joined_states(state, links, back)
             done.update(lot)
             if reads_all(book, lot):
-                return ring_through(book, lot)
+                return lot
     return None
 
 
@@ -112,13 +121,14 @@ def state_links(book, pieces):
     """
     size = book[0]
     starts = begun(book)
+    heads = {piece[:end]: True for piece in pieces for end in range(size, len(piece))}
     links = {}
     waiting = list(starts)
     while waiting:
         state = waiting.pop()
         if state not in links:
             texts = [state + window[-1] for window in starts[state[1 - size:]]]
-            links[state] = [kept_end(size, pieces, text) for text in texts if not ends_piece(pieces, text)]
+            links[state] = [kept_end(size, heads, text) for text in texts if not ends_piece(pieces, text)]
             waiting.extend(links[state])
     return links
 
@@ -128,12 +138,11 @@ def ends_piece(pieces, text):
     return any([text.endswith(piece) for piece in pieces])
 
 
-def kept_end(size, pieces, text):
-    """Returns the longest end of a text with which one of the pieces begins, but at least its last place."""
+def kept_end(size, heads, text):
+    """Returns the longest end of a text that is one of the heads, what pieces begin with, or else its last place."""
     for at in range(len(text) - size + 1):
-        end = text[at:]
-        if any([piece.startswith(end) for piece in pieces]):
-            return end
+        if text[at:] in heads:
+            return text[at:]
     return text[1 - size:]
 
 

@@ -103,12 +103,23 @@ def first_leaving(book, steps):
         into, out = steps[i - 1], steps[j]
         if (into, out) not in seen:
             seen[(into, out)] = True
-            came = lot_between(starts, into, out)
-            back = [window for window in came if window[1:] == into[1:] and window != into]
+            back = way_back(starts, into, out)
             if back:
-                # The trail is a shortest one, so no place stands twice in it.
-                return (i, j, text_of(trail(came, back[0])))
+                return (i, j, text_of(back))
     return None
+
+
+def way_back(starts, into, out):
+    """Returns the steps of a way that leaves where out begins and comes back where into ends, by none of them.
+
+    It is a shortest one, so no place stands twice in it; [] if there is none. A piece is sure
+    exactly if there is none for any two of its steps, into ahead of out.
+    """
+    came = lot_between(starts, into, out)
+    for window in came:
+        if window[1:] == into[1:] and window != into:
+            return trail(came, window)
+    return []
 
 
 def comes_back(into, out, steps):

@@ -3,7 +3,9 @@
 The plain looks are slow and use nothing of the package.
 """
 
-from itertools import product
+from decimal import Decimal
+from fractions import Fraction
+from itertools import combinations, product
 
 BOOK = (2, ("ab", "bc", "bd", "ca", "da"))
 NO_RING = (2, ("ab", "bb"))
@@ -189,3 +191,108 @@ def plain_leavings(book, piece):
     longest = book[0] + len(plain_places(book))
     return [(i, j, way) for way in pieces(book, longest) for j in range(1, n + 1) for i in range(1, j + 1)
             if plain_leaving(book, piece, (i, j, way))]
+
+
+def plain_missable(book, texts):
+    """Whether some ring text that fits has none of the texts, by a look at all pieces as long as the longest one."""
+    many = max(len(text) for text in texts)
+    links = [piece for piece in pieces(book, many)
+             if len(piece) == many and not any(text in piece for text in texts)]
+    after = {}
+    for link in links:
+        after.setdefault(link[:-1], []).append(link[1:])
+    ahead = {}
+    for start in after:
+        ahead[start], front = {start}, [start]
+        while front:
+            further = {other for spot in front for other in after.get(spot, [])} - ahead[start]
+            ahead[start] |= further
+            front = sorted(further)
+    for start in after:
+        round_it = [link for link in links if link[:-1] in ahead[start] and start in ahead.get(link[1:], [])]
+        if {link[-book[0]:] for link in round_it} == set(book[1]):
+            return True
+    return False
+
+
+def plain_longest(book):
+    """The longest sure pieces, by growing all sure ones letter by letter; each piece within a sure one is sure."""
+    found, front = [], list(book[1])
+    letters = sorted({letter for window in book[1] for letter in window})
+    while front:
+        known = set(front)
+        longer = {piece + letter for piece in front for letter in letters if piece[1 - book[0]:] + letter in book[1]}
+        longer = {piece for piece in longer if piece[1:] in known and not plain_missable(book, [piece])}
+        found += [piece for piece in front if not any(piece in other for other in longer)]
+        front = sorted(longer)
+    return sorted(found)
+
+
+def plain_counts(book, ring):
+    """How often each window is read in a ring text, None if it has another one."""
+    read = ["".join(ring[(at + k) % len(ring)] for k in range(book[0])) for at in range(len(ring))]
+    return tuple(read.count(window) for window in book[1]) if set(read) <= set(book[1]) else None
+
+
+def plain_balance(book, counts):
+    pairs = list(zip(book[1], counts))
+    return all(sum(count for window, count in pairs if window[:-1] == place)
+               == sum(count for window, count in pairs if window[1:] == place) for place in plain_places(book))
+
+
+def plain_within(bounds, counts):
+    return all(least <= count <= most for (least, most), count in zip(bounds, counts))
+
+
+def plain_between(book, bounds):
+    """All counts that balance within bounds."""
+    ranges = [range(least, most + 1) for least, most in bounds]
+    return [counts for counts in product(*ranges) if plain_balance(book, counts)]
+
+
+def plain_bar(book, bounds, value):
+    """Whether an object is a bar, word by word as point [31] has it."""
+    if type(value) is not tuple or any(type(place) is not str for place in value):
+        return False
+    if list(value) != sorted(set(value)) or not set(value) <= set(plain_places(book)):
+        return False
+    out = into = 0
+    for window, (least, most) in zip(book[1], bounds):
+        out += least if window[:-1] in value and window[1:] not in value else 0
+        into += most if window[:-1] not in value and window[1:] in value else 0
+    return out > into
+
+
+def lots(items):
+    """All ascending tuples of some of these."""
+    return [lot for many in range(len(items) + 1) for lot in combinations(sorted(items), many)]
+
+
+def other_numbers():
+    """New objects that are nearly the integer 1."""
+    return [True, Fraction(1), Decimal(1), complex(1, 0), "1", b"1", (1,), [1], {1}, {1: 1}, None]
+
+
+def faulty_counts(number):
+    """New objects that are no counts for a book of so many windows, more than one, among them those that nearly are."""
+    right = (1,) * number
+    near = [list(right), right[1:], right + (1,), (right,), [right], (list(right),), "1" * number, b"1" * number,
+            dict(enumerate(right)), set(range(number)), range(number), (), ((1, 1),) * number, ([1],) * number]
+    for at in (0, number - 1):
+        for item in other_numbers() + odd_objects() + [-1, -10 ** 40]:
+            if type(item) is not int or item < 0:
+                near.append(right[:at] + (item,) + right[at + 1:])
+    return odd_objects() + near
+
+
+def faulty_bounds(number):
+    """New objects that are no bounds for a book of so many windows, more than one, among them those that nearly are."""
+    right = ((0, 1),) * number
+    near = [list(right), right[1:], right + ((0, 1),), (right,), (list(right),), dict(right), (0, 1) * number,
+            tuple([0, 1] for _ in right), (1,) * number, ("01",) * number, (b"01",) * number, (range(2),) * number]
+    wrong = [(2, 1), (-1, 1), (-2, -1), (0, 10 ** 30 + 1), (10 ** 30 + 1, 10 ** 30 + 1), (0,), (0, 1, 2), (), [0, 1],
+             {0: 1}, {0, 1}, "01", ((0, 1),), (10 ** 40, 10 ** 41)]
+    wrong += [(0, item) for item in other_numbers()] + [(item, 1) for item in other_numbers()] + odd_objects()
+    for at in (0, number - 1):
+        near += [right[:at] + (pair,) + right[at + 1:] for pair in wrong]
+    return odd_objects() + near

@@ -1,4 +1,4 @@
-"""The examples of points [10] and [11], as the document has them, and those of README.md."""
+"""The examples of points [10] to [13] and [31], as the document has them, and those of README.md."""
 
 import doctest
 import os
@@ -21,6 +21,30 @@ SURE = r"""
 [True, False, True, False, True]
 """
 
+LONGEST = r"""
+>>> from surepieces.longest import longer, longest, plain_pieces
+>>> book = (2, ("ab", "bc", "bd", "ca", "da"))
+>>> [longest(book), plain_pieces(book), longer(book, "cabd")]
+[['abcabdab', 'abdabcab'], ['ab', 'bca', 'bda'], ['bcabd', 'cabda']]
+"""
+
+SEVERAL = r"""
+>>> from surepieces.several import fewest, needed, one_is_sure
+>>> book = (2, ("ab", "bc", "bd", "ca", "da"))
+>>> [one_is_sure(book, ["cabc", "dabd"]), one_is_sure(book, ["cabc", "cabd"]), needed(book, ["cabc", "cabd"]), fewest(book, ["cabc", "cabd", "dabc"])]
+[False, True, [1], (1,)]
+"""
+
+COUNTS = r"""
+>>> from surepieces.counts import bar_holds, counts_between, counts_of, least_of, most_of, ring_of
+>>> book = (2, ("ab", "bc", "bd", "ca", "da"))
+>>> bounds = ((3, 4), (1, 9), (1, 1), (0, 9), (0, 9))
+>>> [counts_of(book, "abcabd"), ring_of(book, (1, 1, 0, 1, 0)) is not None, most_of(book, bounds, "bc"), least_of(book, bounds, "ca"), bar_holds(book, ((3, 4), (0, 1), (0, 1), (0, 9), (0, 9)), ("a",))]
+[(2, 1, 1, 1, 1), True, 3, 2, False]
+>>> bar_holds(book, ((3, 4), (0, 1), (0, 1), (0, 9), (0, 9)), ("a", "c", "d"))
+True
+"""
+
 README = os.path.join(os.path.dirname(os.path.dirname(os.path.abspath(__file__))), "README.md")
 
 
@@ -38,10 +62,19 @@ class ExamplesTest(unittest.TestCase):
     def test_point_11(self):
         self.run_examples(SURE, "point 11", 4)
 
+    def test_point_12(self):
+        self.run_examples(LONGEST, "point 12", 3)
+
+    def test_point_13(self):
+        self.run_examples(SEVERAL, "point 13", 3)
+
+    def test_point_31(self):
+        self.run_examples(COUNTS, "point 31", 5)
+
     def test_readme(self):
         with open(README, encoding="ascii") as file:
             # The line that ends a block would be read as what the example before it returns.
-            self.run_examples(file.read().replace("```", ""), "README.md", 4)
+            self.run_examples(file.read().replace("```", ""), "README.md", 20)
 
 
 if __name__ == "__main__":

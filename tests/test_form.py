@@ -22,7 +22,21 @@ INTERFACE = {
         "is_sure": ["book", "piece"], "leaving": ["book", "piece"], "is_leaving": ["book", "piece", "value"],
         "without": ["book", "piece"], "sure_paper": ["book", "piece"], "paper_holds": ["book", "piece", "value"],
     },
+    "longest": {
+        "is_endless": ["book"], "longer": ["book", "piece"], "longest": ["book"], "longest_with": ["book", "window"],
+        "plain_pieces": ["book"],
+    },
+    "several": {
+        "one_is_sure": ["book", "pieces"], "without_all": ["book", "pieces"], "needed": ["book", "pieces"],
+        "fewest": ["book", "pieces"],
+    },
+    "counts": {
+        "counts_of": ["book", "ring"], "balance": ["book", "counts"], "ring_of": ["book", "counts"],
+        "counts_between": ["book", "bounds"], "bar": ["book", "bounds"], "bar_holds": ["book", "bounds", "value"],
+        "most_of": ["book", "bounds", "window"], "least_of": ["book", "bounds", "window"],
+    },
 }
+LIBRARY = {"itertools": ["combinations"]}
 BUILTINS = [
     "len", "range", "enumerate", "zip", "min", "max", "sum", "abs", "sorted", "reversed", "int", "str", "bool", "list",
     "tuple", "dict", "set", "isinstance", "ord", "repr", "any", "all", "divmod", "ValueError",
@@ -86,8 +100,31 @@ class FormTest(unittest.TestCase):
             for node in tree.body[1:]:
                 self.assertIsInstance(node, (ast.ImportFrom, ast.FunctionDef, ast.ClassDef), name)
                 if isinstance(node, ast.ImportFrom):
-                    self.assertTrue(node.module.startswith("surepieces.") and node.level == 0, name)
                     self.assertTrue(all(alias.name != "*" and alias.asname is None for alias in node.names))
+                    if node.module in LIBRARY:
+                        self.assertTrue(all(alias.name in LIBRARY[node.module] for alias in node.names), name)
+                    else:
+                        self.assertTrue(node.module.startswith("surepieces.") and node.level == 0, name)
+
+    def test_imports_name_the_file_that_defines_the_name(self):
+        trees = {name: tree for name, _, tree in sources()}
+        for name, tree in trees.items():
+            for node in tree.body:
+                if isinstance(node, ast.ImportFrom) and node.module not in LIBRARY:
+                    there = trees[node.module.split(".")[1] + ".py"].body
+                    own = [part.name for part in there if isinstance(part, (ast.FunctionDef, ast.ClassDef))]
+                    self.assertEqual([alias.name for alias in node.names if alias.name not in own], [], name)
+                    used = {part.id for part in ast.walk(tree) if isinstance(part, ast.Name)}
+                    self.assertEqual([alias.name for alias in node.names if alias.name not in used], [], name)
+
+    def test_no_variable_has_the_name_of_an_import(self):
+        for name, _, tree in sources():
+            imports = [alias.name for node in tree.body if isinstance(node, ast.ImportFrom) for alias in node.names]
+            for node in ast.walk(tree):
+                if isinstance(node, ast.Name) and isinstance(node.ctx, ast.Store):
+                    self.assertNotIn(node.id, imports, name)
+                if isinstance(node, ast.arg):
+                    self.assertNotIn(node.arg, imports, name)
 
     def test_names_and_methods(self):
         barred = [name for name in dir(builtins) if not name.startswith("_")]
@@ -113,8 +150,8 @@ class FormTest(unittest.TestCase):
     def test_imports_go_round_nowhere(self):
         below = {}
         for name, _, tree in sources():
-            imports = [node.module.split(".")[1] for node in tree.body if isinstance(node, ast.ImportFrom)]
-            below[name[:-3]] = imports
+            imports = [node.module for node in tree.body if isinstance(node, ast.ImportFrom)]
+            below[name[:-3]] = [module.split(".")[1] for module in imports if module not in LIBRARY]
         done = []
         while len(done) < len(below):
             ready = [name for name in below if name not in done and all(other in done for other in below[name])]

@@ -2,11 +2,17 @@
 
 import unittest
 
-from tests.helper import BOOK, NO_RING, assert_refused, faulty_books, odd_objects
+from tests.helper import BOOK, NO_RING, assert_refused, faulty_books, faulty_bounds, faulty_counts, odd_objects
 from surepieces.books import closed_lot, fits, has_ring, is_closed_lot, is_piece, least_turn, places, ring_windows
 from surepieces.books import is_book, is_ring, some_ring, stands_in, way, windows_of
-from surepieces.errors import InvalidBook, InvalidPiece, InvalidRing, InvalidSize, NoRing
+from surepieces.counts import balance, bar, bar_holds, counts_between, counts_of, least_of, most_of, ring_of
+from surepieces.errors import Endless, InvalidBook, InvalidBounds, InvalidCounts, InvalidPiece, InvalidRing, InvalidSize
+from surepieces.errors import NoRing, NotWithin
+from surepieces.longest import is_endless, longer, longest, longest_with, plain_pieces
+from surepieces.several import fewest, needed, one_is_sure, without_all
 from surepieces.sure import is_leaving, is_sure, leaving, paper_holds, sure_paper, without
+
+BOUNDS = ((3, 4), (1, 9), (1, 1), (0, 9), (0, 9))
 
 # Each function with right arguments, by the names of its parameters in their sequence.
 BOOKS_CALLS = [
@@ -27,18 +33,51 @@ SURE_CALLS = [
     (sure_paper, {"book": BOOK, "piece": "cabd"}),
     (paper_holds, {"book": BOOK, "piece": "cabd", "value": ()}),
 ]
+LONGEST_CALLS = [
+    (is_endless, {"book": BOOK}),
+    (longer, {"book": BOOK, "piece": "cabd"}),
+    (longest, {"book": BOOK}),
+    (longest_with, {"book": BOOK, "window": "ca"}),
+    (plain_pieces, {"book": BOOK}),
+]
+SEVERAL_CALLS = [
+    (one_is_sure, {"book": BOOK, "pieces": ["cabc", "cabd"]}),
+    (without_all, {"book": BOOK, "pieces": ["cabc", "abcabc"]}),
+    (needed, {"book": BOOK, "pieces": ["cabc", "cabd"]}),
+    (fewest, {"book": BOOK, "pieces": ["cabc", "cabd"]}),
+]
+COUNTS_CALLS = [
+    (counts_of, {"book": BOOK, "ring": "abcabd"}),
+    (balance, {"book": BOOK, "counts": (2, 1, 1, 1, 1)}),
+    (ring_of, {"book": BOOK, "counts": (2, 1, 1, 1, 1)}),
+    (counts_between, {"book": BOOK, "bounds": BOUNDS}),
+    (bar, {"book": BOOK, "bounds": BOUNDS}),
+    (bar_holds, {"book": BOOK, "bounds": BOUNDS, "value": ("a",)}),
+    (most_of, {"book": BOOK, "bounds": BOUNDS, "window": "ca"}),
+    (least_of, {"book": BOOK, "bounds": BOUNDS, "window": "ca"}),
+]
 OTHER_CALLS = [
     (windows_of, {"size": 2, "text": "abc"}),
     (ring_windows, {"size": 2, "ring": "abc"}),
     (stands_in, {"ring": "abc", "piece": "ab"}),
     (least_turn, {"ring": "abc"}),
 ]
-CALLS = BOOKS_CALLS + SURE_CALLS + OTHER_CALLS
+# Those that refuse a book that no ring text fits.
+RINGED_CALLS = SURE_CALLS + LONGEST_CALLS + SEVERAL_CALLS
+BOOK_CALLS = BOOKS_CALLS + RINGED_CALLS + COUNTS_CALLS
+CALLS = BOOK_CALLS + OTHER_CALLS
+
+# What each parameter is refused by; that called value is judged, not refused.
+ERRORS = {
+    "book": InvalidBook, "ring": InvalidRing, "size": InvalidSize, "text": InvalidRing, "piece": InvalidPiece,
+    "one": InvalidPiece, "other": InvalidPiece, "window": InvalidPiece, "pieces": InvalidPiece,
+    "counts": InvalidCounts, "bounds": InvalidBounds,
+}
 
 
 def put(named, **other):
-    """Arguments with others in the place of some."""
-    return {**named, **other}
+    """Arguments with others in the place of those of these names."""
+    return {name: other.get(name, value) for name, value in named.items()}
 
 
 class RefusalsTest(unittest.TestCase):
@@ -53,7 +92,7 @@ class RefusalsTest(unittest.TestCase):
             self.assertEqual(function(*named.values()), function(**named))
 
     def test_faulty_books(self):
-        for function, named in BOOKS_CALLS + SURE_CALLS:
+        for function, named in BOOK_CALLS:
             for book in faulty_books():
                 self.refuses(InvalidBook, book, function, put(named, book=book))
 
@@ -64,15 +103,58 @@ class RefusalsTest(unittest.TestCase):
                     self.refuses(InvalidRing, ring, function, put(named, ring=ring))
 
     def test_faulty_pieces_of_the_book(self):
-        for function, named in SURE_CALLS:
+        for function, named in SURE_CALLS + [(longer, {"book": BOOK, "piece": "cabd"})]:
             for piece in odd_objects() + ["a", "b", "ac", "abca ", "abdc", "ba", ("ab",), ["ab"], "abCa", "xyz"]:
                 self.refuses(InvalidPiece, piece, function, put(named, piece=piece))
 
+    def test_faulty_objects_in_a_list_of_pieces(self):
+        for piece in odd_objects() + ["a", "ac", "abca ", "abdc", "ba", ("ab",), ["ab"], "abCa", "xyz", ["ab", ["ab"]]]:
+            for function, _ in SEVERAL_CALLS:
+                for pieces in ([piece], [piece, "cabd"], ["cabc", piece], ["ab"] * 5 + [piece], ["ab", piece, "xx"],
+                               [piece, ["y"]]):
+                    self.refuses(InvalidPiece, piece, function, {"book": BOOK, "pieces": pieces})
+
+    def test_the_first_object_that_is_no_piece_is_refused(self):
+        for function, _ in SEVERAL_CALLS:
+            for pieces, first in ((["ab", "xx", "yy"], "xx"), (["yy", "xx"], "yy"), (["ab", ["x"], "xx"], ["x"])):
+                self.refuses(InvalidPiece, first, function, {"book": BOOK, "pieces": pieces})
+
     def test_pieces_that_are_shorter_than_a_window(self):
         book = (4, ("aabb", "abba", "baab", "bbaa"))
-        for function, named in SURE_CALLS:
-            for piece in ("a", "aa", "aab", "abb"):
+        for piece in ("a", "aa", "aab", "abb"):
+            for function, named in SURE_CALLS + [(longer, {"book": BOOK, "piece": "cabd"})]:
                 self.refuses(InvalidPiece, piece, function, put(named, book=book, piece=piece))
+            for function, named in SEVERAL_CALLS:
+                self.refuses(InvalidPiece, piece, function, {"book": book, "pieces": ["aabb", piece]})
+
+    def test_faulty_windows(self):
+        for window in odd_objects() + ["a", "abc", "ac", "ba", "xy", ("ab",), ["ab"], "cabd"]:
+            for function, named in ((longest_with, {"book": BOOK, "window": "ca"}), *COUNTS_CALLS[-2:]):
+                self.refuses(InvalidPiece, window, function, put(named, window=window))
+
+    def test_faulty_counts(self):
+        for counts in faulty_counts(5):
+            for function in (balance, ring_of):
+                self.refuses(InvalidCounts, counts, function, {"book": BOOK, "counts": counts})
+
+    def test_faulty_bounds(self):
+        for bounds in faulty_bounds(5):
+            for function, named in COUNTS_CALLS[3:]:
+                self.refuses(InvalidBounds, bounds, function, put(named, bounds=bounds))
+
+    def test_ring_texts_with_other_windows(self):
+        for ring in ("abcab", "a", "xyz"):
+            self.refuses(NotWithin, ring, counts_of, {"book": BOOK, "ring": ring})
+        self.refuses(NotWithin, "ab", counts_of, {"book": NO_RING, "ring": "ab"})
+
+    def test_endless_books(self):
+        for book in ((2, ("ab", "bc", "ca")), (2, ("aa",)), (3, ("aba", "bab"))):
+            for function, named in LONGEST_CALLS[2:]:
+                for window in (book[1][0], "xx", None, ["ab"], [[]]):
+                    self.refuses(Endless, book, function, put(named, book=book, window=window))
+            self.assertIs(is_endless(book), True)
+            self.assertTrue(longer(book, book[1][0]))
+            self.refuses(InvalidPiece, ["xx"], longer, {"book": book, "piece": ["xx"]})
 
     def test_faulty_texts_to_stand_in(self):
         for piece in odd_objects() + ["ab ", ["a"], ("a",), "aBc"]:
@@ -97,30 +179,37 @@ class RefusalsTest(unittest.TestCase):
 
     def test_books_that_no_ring_text_fits(self):
         for book in (NO_RING, (2, ("ab",)), (3, ("aba",)), (2, ("aa", "bb")), (2, ("ab", "ba", "bc"))):
-            for function, named in SURE_CALLS:
-                self.refuses(NoRing, book, function, put(named, book=book, piece=book[1][0]))
+            first = book[1][0]
+            for function, named in RINGED_CALLS:
+                self.refuses(NoRing, book, function, put(named, book=book, piece=first, window=first, pieces=[first]))
 
     def test_two_wrong_ones_are_refused_by_the_first(self):
         wrong = ["A", []]
         for function, named in CALLS:
-            first = list(named)[0]
-            error = {"book": InvalidBook, "ring": InvalidRing, "size": InvalidSize}[first]
-            for last in list(named)[1:]:
-                self.refuses(error, wrong, function, put(named, **{first: wrong, last: ["B", []]}))
+            names = [name for name in named if name != "value"]
+            for at, first in enumerate(names):
+                value = wrong[0] if first == "pieces" else wrong
+                self.refuses(ERRORS[first], value, function, put(named, **{first: wrong}))
+                for last in list(named)[at + 1:]:
+                    self.refuses(ERRORS[first], value, function, put(named, **{first: wrong, last: ["B", []]}))
+                everything = {name: ["B", []] for name in list(named)[at + 1:]}
+                self.refuses(ERRORS[first], value, function, put(named, **{first: wrong, **everything}))
 
     def test_two_wrong_windows_are_refused_by_the_first(self):
         self.refuses(InvalidPiece, "xx", way, {"book": BOOK, "one": "xx", "other": "yy"})
         self.refuses(InvalidPiece, ["x"], way, {"book": BOOK, "one": ["x"], "other": ["y"]})
 
     def test_no_ring_stands_behind_invalid_book_and_ahead_of_invalid_piece(self):
-        for function, named in SURE_CALLS:
+        for function, named in RINGED_CALLS:
             for piece in ("xx", None, [["ab"]], "ba"):
-                self.refuses(NoRing, NO_RING, function, put(named, book=NO_RING, piece=piece))
-                self.refuses(InvalidBook, (2, ["ab"]), function, put(named, book=(2, ["ab"]), piece=piece))
+                other = put(named, piece=piece, window=piece, pieces=[piece])
+                self.refuses(NoRing, NO_RING, function, put(other, book=NO_RING))
+                self.refuses(InvalidBook, (2, ["ab"]), function, put(other, book=(2, ["ab"])))
 
-    def test_no_ring_is_for_sure_py_alone(self):
-        for function, named in BOOKS_CALLS:
-            right = {"book": NO_RING, "value": ("b",), "ring": "abb", "one": "ab", "other": "bb"}
+    def test_no_ring_is_for_some_files_alone(self):
+        right = {"book": NO_RING, "value": ("b",), "ring": "bb", "one": "ab", "other": "bb", "window": "bb",
+                 "counts": (0, 1), "bounds": ((0, 1), (1, 2))}
+        for function, named in BOOKS_CALLS + COUNTS_CALLS:
             function(**{name: right[name] for name in named})
 
     def test_what_is_judged_is_refused_by_none(self):
@@ -132,6 +221,7 @@ class RefusalsTest(unittest.TestCase):
             self.assertIs(is_closed_lot(BOOK, value), False)
             self.assertIs(is_leaving(BOOK, "cabc", value), False)
             self.assertIs(paper_holds(BOOK, "cabd", value), False)
+            self.assertIs(bar_holds(BOOK, BOUNDS, value), False)
             self.assertEqual(repr(value), before)
 
     def test_dicts_and_sets_in_a_refused_object_are_as_they_were(self):
@@ -141,7 +231,9 @@ class RefusalsTest(unittest.TestCase):
 
 class ListsTest(unittest.TestCase):
     def test_each_list_that_is_returned_is_new(self):
-        for function, args in ((places, (BOOK,)), (windows_of, (2, "abcab")), (ring_windows, (2, "abcabd"))):
+        for function, args in ((places, (BOOK,)), (windows_of, (2, "abcab")), (ring_windows, (2, "abcabd")),
+                               (longer, (BOOK, "ab")), (longest, (BOOK,)), (longest_with, (BOOK, "ca")),
+                               (plain_pieces, (BOOK,)), (needed, (BOOK, ["cabc", "cabd"]))):
             one = function(*args)
             other = function(*args)
             self.assertIs(type(one), list)
@@ -158,9 +250,16 @@ class ListsTest(unittest.TestCase):
             self.assertEqual(repr(function(**named)), repr(function(**copied)))
 
     def test_what_is_told_whether_is_true_or_false(self):
-        for function in (is_piece, fits, has_ring, is_closed_lot, is_sure, is_leaving, paper_holds, stands_in):
+        for function in (is_piece, fits, has_ring, is_closed_lot, is_sure, is_leaving, paper_holds, stands_in,
+                         is_endless, one_is_sure, balance, bar_holds):
             named = dict(CALLS_BY_NAME[function.__name__])
             self.assertIn(type(function(**named)), (bool,))
+
+    def test_a_list_of_pieces_stays_as_it_was(self):
+        for function, named in SEVERAL_CALLS:
+            pieces = list(named["pieces"])
+            function(BOOK, pieces)
+            self.assertEqual(pieces, named["pieces"])
 
 
 CALLS_BY_NAME = {function.__name__: named for function, named in CALLS}
