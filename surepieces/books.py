@@ -10,14 +10,17 @@ def is_book(value):
     if not isinstance(value, tuple) or len(value) != 2:
         return False
     size, windows = value
-    if not is_size(size) or not is_ascending(windows) or not windows:
-        return False
-    return all([len(window) == size and is_letters(window) for window in windows])
+    return is_size(size) and is_windows(size, windows) and windows != ()
 
 
 def is_size(value):
     """Tells whether any object is an integer that windows can have as their size."""
     return is_whole(value) and 2 <= value <= 6
+
+
+def is_windows(size, value):
+    """Tells whether any object is an ascending tuple, perhaps empty, of texts of size small letters."""
+    return is_ascending(value) and all([len(window) == size and is_letters(window) for window in value])
 
 
 def is_ring(value):

@@ -27,12 +27,9 @@ def balance(book, counts):
 
 def ring_of(book, counts):
     """Returns a ring text with these counts, None if there is none."""
-    if not balance(book, counts):
-        return None
-    used = tuple([window for window, count in zip(book[1], counts) if count > 0])
-    if not used or closed_lot((book[0], used)) is not None:
-        return None
-    return ring_round(book, counts)
+    check_book(book)
+    check_counts(book, counts)
+    return ring_round(book, counts) if has_ring_text(book, counts) else None
 
 
 def counts_between(book, bounds):
@@ -108,6 +105,12 @@ def check_bounds(book, bounds):
     """Refuses what is no bounds for what surely is a book."""
     if not is_bounds(book, bounds):
         raise InvalidBounds(rebuilt(bounds))
+
+
+def has_ring_text(book, counts):
+    """Tells whether some ring text has what surely are counts for a book."""
+    used = tuple([window for window, count in zip(book[1], counts) if count > 0])
+    return used != () and balance(book, counts) and closed_lot((book[0], used)) is None
 
 
 def surpluses(book, counts):

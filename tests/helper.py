@@ -3,13 +3,19 @@
 The plain looks are slow and use nothing of the package.
 """
 
+import random
+import time
+import unittest
 from decimal import Decimal
 from fractions import Fraction
+from heapq import heappop, heappush
 from itertools import combinations, product
 
 BOOK = (2, ("ab", "bc", "bd", "ca", "da"))
 NO_RING = (2, ("ab", "bb"))
 SMALL_LETTERS = "abcdefghijklmnopqrstuvwxyz"
+# A call takes milliseconds; this only tells a slow machine from a search without an end.
+SOON = 20
 
 
 def nested(kind, depth):
@@ -296,3 +302,125 @@ def faulty_bounds(number):
     for at in (0, number - 1):
         near += [right[:at] + (pair,) + right[at + 1:] for pair in wrong]
     return odd_objects() + near
+
+
+def faulty_costs(number):
+    """New objects that are no costs for a book of so many windows, more than one, among them those that nearly are."""
+    right = (1,) * number
+    return faulty_counts(number) + [(10 ** 30 + 1,) + right[1:], right[1:] + (10 ** 30 + 1,), (10 ** 40,) * number]
+
+
+def plain_ringed(windows):
+    """Whether each of the windows leads to each other one, and one by itself to itself, and there is one."""
+    if not windows or (len(windows) == 1 and windows[0][1:] != windows[0][:-1]):
+        return False
+    for part, end in ((slice(1, None), slice(-1)), (slice(-1), slice(1, None))):
+        seen, front = {windows[0]}, [windows[0]]
+        while front:
+            front = [other for other in windows if other not in seen and any(other[end] == one[part] for one in front)]
+            seen.update(front)
+        if len(seen) < len(windows):
+            return False
+    return True
+
+
+def plain_least_cost(book, costs):
+    """The least cost of a ring text that fits, by a search over the last window and all windows read so far."""
+    windows = book[1]
+    done = set()
+    queue = [(costs[0], 0, 1)]
+    while queue:
+        cost, last, read = heappop(queue)
+        if (last, read) in done:
+            continue
+        done.add((last, read))
+        if read == (1 << len(windows)) - 1 and windows[last][1:] == windows[0][:-1]:
+            return cost
+        for at, window in enumerate(windows):
+            if window[:-1] == windows[last][1:]:
+                heappush(queue, (cost + costs[at], at, read | 1 << at))
+    return None
+
+
+def plain_prices(book, costs, cost, value):
+    """Whether an object is prices for this cost, word by word as point [32] has it."""
+    spots = plain_places(book)
+    if type(value) is not tuple or len(value) != len(spots) or any(type(price) is not int for price in value):
+        return False
+    price = dict(zip(spots, value))
+    if min(value) != 0 or any(price[window[:-1]] - price[window[1:]] > costs[at] for at, window in enumerate(book[1])):
+        return False
+    total = sum(costs)
+    for place in spots:
+        ends = len([window for window in book[1] if window[1:] == place])
+        begins = len([window for window in book[1] if window[:-1] == place])
+        total += price[place] * (ends - begins)
+    return total == cost
+
+
+def plain_readings(size, letters, longest):
+    """All ring texts of these letters up to so many, ascending, by what windows stand in them how often."""
+    found = {}
+    for length in range(1, longest + 1):
+        for row in product(letters, repeat=length):
+            ring = "".join(row)
+            read = sorted("".join(ring[(at + k) % length] for k in range(size)) for at in range(length))
+            found.setdefault(tuple(read), []).append(ring)
+    return found
+
+
+def plain_trees(book, counts, root):
+    """How many trees lead to a place, by a look at all ways to choose one window out of each other place."""
+    used = [(window, count) for window, count in zip(book[1], counts) if count]
+    spots = plain_places((book[0], [window for window, _ in used]))
+    if root not in spots:
+        return 0
+    found = 0
+    others = [place for place in spots if place != root]
+    for row in product(*[[pair for pair in used if pair[0][:-1] == place] for place in others]):
+        onward = {window[:-1]: window[1:] for window, _ in row}
+        number = 1
+        for place, (_, count) in zip(others, row):
+            number *= count
+            for _ in others:
+                place = onward.get(place, root)
+            number *= place == root
+        found += number
+    return found
+
+
+def ringed(size, letters, number, seed):
+    """A book of at most so many windows, and not many fewer, that some ring text fits."""
+    rng = random.Random(seed)
+    while True:
+        ring = "".join(rng.choices(letters, k=rng.randint(number // 2, 2 * number)))
+        windows = plain_windows(size, ring)
+        if number - 6 <= len(windows) <= number:
+            return (size, tuple(windows))
+
+
+def cycle(size, length):
+    """A book of a ring text of so many letters in which no window stands twice."""
+    ring = (SMALL_LETTERS + "zyxwvutsrqponmlk")[:length]
+    return (size, tuple(plain_windows(size, ring))), ring
+
+
+def books_at_the_bounds():
+    hub = [letter + "a" for letter in "bcdefghijklmnopqrstu"] + ["a" + letter for letter in "bcdefghijklmnopqrstu"]
+    yield (2, tuple(sorted(hub)))
+    yield (2, tuple(one + other for one in "abcdef" for other in "abcdef"))
+    yield (2, tuple(plain_windows(2, SMALL_LETTERS + "acegikmoqsuwy")))
+    for size in range(2, 7):
+        yield ringed(size, "abcdefgh"[:9 - size] if size < 6 else "abc", 40, size)
+    for size in range(3, 7):
+        yield cycle(size, 40)[0]
+
+
+class SoonTest(unittest.TestCase):
+    """Fails what takes too long."""
+
+    def setUp(self):
+        self.begun = time.monotonic()
+
+    def tearDown(self):
+        self.assertLess(time.monotonic() - self.begun, SOON)

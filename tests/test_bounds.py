@@ -1,11 +1,11 @@
-"""Point [6]: inputs at the bounds, and somewhat beyond them, are answered, and soon."""
+"""Points [6] and [10] to [31]: inputs at the bounds, and somewhat beyond them, are answered, and soon."""
 
 import random
-import time
 import unittest
 
-from tests.helper import SMALL_LETTERS, plain_balance, plain_bar, plain_closed_lot, plain_counts, plain_leaving
-from tests.helper import plain_paper, plain_stands, plain_windows, plain_within, random_piece
+from tests.helper import SMALL_LETTERS, SoonTest, books_at_the_bounds, cycle, plain_balance, plain_bar
+from tests.helper import plain_closed_lot, plain_counts, plain_leaving, plain_paper, plain_stands, plain_windows
+from tests.helper import plain_within, random_piece
 from surepieces.books import closed_lot, fits, has_ring, is_closed_lot, is_piece, least_turn, places, ring_windows
 from surepieces.books import some_ring, stands_in, way, windows_of
 from surepieces.counts import balance, bar, bar_holds, counts_between, counts_of, least_of, most_of, ring_of
@@ -13,50 +13,9 @@ from surepieces.longest import is_endless, longer, longest, longest_with, plain_
 from surepieces.several import fewest, needed, one_is_sure, without_all
 from surepieces.sure import is_leaving, is_sure, leaving, paper_holds, sure_paper, without
 
-# A call takes milliseconds; this only tells a slow machine from a search without an end.
-SOON = 20
-
-
-def ringed(size, letters, number, seed):
-    """A book of at most so many windows, and not many fewer, that some ring text fits."""
-    rng = random.Random(seed)
-    while True:
-        ring = "".join(rng.choices(letters, k=rng.randint(number // 2, 2 * number)))
-        windows = plain_windows(size, ring)
-        if number - 6 <= len(windows) <= number:
-            return (size, tuple(windows))
-
-
-def cycle(size, length):
-    """A book of a ring text of so many letters in which no window stands twice."""
-    ring = (SMALL_LETTERS + "zyxwvutsrqponmlk")[:length]
-    return (size, tuple(plain_windows(size, ring))), ring
-
-
 def chorded(length, window):
     """A book of windows of three letters: those of a long round, and one more that passes by some places of it."""
     return (3, tuple(sorted(cycle(3, length)[0][1] + (window,))))
-
-
-def books_at_the_bounds():
-    hub = [letter + "a" for letter in "bcdefghijklmnopqrstu"] + ["a" + letter for letter in "bcdefghijklmnopqrstu"]
-    yield (2, tuple(sorted(hub)))
-    yield (2, tuple(one + other for one in "abcdef" for other in "abcdef"))
-    yield (2, tuple(plain_windows(2, SMALL_LETTERS + "acegikmoqsuwy")))
-    for size in range(2, 7):
-        yield ringed(size, "abcdefgh"[:9 - size] if size < 6 else "abc", 40, size)
-    for size in range(3, 7):
-        yield cycle(size, 40)[0]
-
-
-class SoonTest(unittest.TestCase):
-    """Fails what takes too long."""
-
-    def setUp(self):
-        self.begun = time.monotonic()
-
-    def tearDown(self):
-        self.assertLess(time.monotonic() - self.begun, SOON)
 
 
 class BoundsTest(SoonTest):

@@ -1,4 +1,4 @@
-"""The examples of points [10] to [13] and [31], as the document has them, and those of README.md."""
+"""The examples of points [10] to [13], [31] to [34] and [38], as the document has them, and those of README.md."""
 
 import doctest
 import os
@@ -45,6 +45,37 @@ COUNTS = r"""
 True
 """
 
+SHORTEST = r"""
+>>> from surepieces.shortest import best_counts, is_best, least_cost, prices_hold, shortest
+>>> book = (2, ("ab", "bc", "bd", "ca", "da"))
+>>> [shortest(book), best_counts(book, (1, 1, 1, 1, 1)), least_cost(book, (5, 1, 1, 1, 1)), prices_hold(book, (1, 1, 1, 1, 1), 6, (0, 1, 0, 0)), is_best(book, (1, 1, 1, 1, 1), (3, 1, 2, 1, 2))]
+[6, (2, 1, 1, 1, 1), 14, False, False]
+>>> prices_hold(book, (1, 1, 1, 1, 1), 6, (1, 0, 1, 1))
+True
+"""
+
+NUMBERS = r"""
+>>> from surepieces.numbers import following, many, many_from, nth, place, rings_many, trees
+>>> book = (2, ("ab", "bc", "bd", "ca", "da"))
+>>> counts = (3, 2, 1, 2, 1)
+>>> [many(book, counts), rings_many(book, counts), many_from(book, counts, "abd"), nth(book, counts, 0), place(book, counts, "abdabcabc"), following(book, counts, "abcabcabd"), trees(book, counts, "a")]
+[9, 1, 1, 'abcabcabd', 2, 'abcabdabc', 6]
+"""
+
+SPARE = r"""
+>>> from surepieces.spare import largest_lots, least_join, may_go, needed, rest, round_ring
+>>> book = (2, ("ab", "bc", "bd", "ca", "da"))
+>>> [needed(book), may_go(book, ("bd", "da")), largest_lots((2, ("ab", "ba", "bc", "cd", "dc"))), round_ring(book), least_join((2, ("ab", "bc")))]
+[['ab', 'bc', 'bd', 'ca', 'da'], True, [('ab', 'ba'), ('cd', 'dc')], 'abc', 1]
+"""
+
+DESK = r"""
+>>> from surepieces.desk import Desk
+>>> desk = Desk()
+>>> [desk.execute(line) for line in ["book 2: ab bc bd ca da", "ring", "sure cabd", "shortest", "take bd", "ring", "back", "needed"]]
+['ok', 'yes', 'yes', '6', 'ok', 'no', 'take', 'ab bc bd ca da']
+"""
+
 README = os.path.join(os.path.dirname(os.path.dirname(os.path.abspath(__file__))), "README.md")
 
 
@@ -70,6 +101,18 @@ class ExamplesTest(unittest.TestCase):
 
     def test_point_31(self):
         self.run_examples(COUNTS, "point 31", 5)
+
+    def test_point_32(self):
+        self.run_examples(SHORTEST, "point 32", 4)
+
+    def test_point_33(self):
+        self.run_examples(NUMBERS, "point 33", 4)
+
+    def test_point_34(self):
+        self.run_examples(SPARE, "point 34", 3)
+
+    def test_point_38(self):
+        self.run_examples(DESK, "point 38", 3)
 
     def test_readme(self):
         with open(README, encoding="ascii") as file:

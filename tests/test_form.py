@@ -35,15 +35,41 @@ INTERFACE = {
         "counts_between": ["book", "bounds"], "bar": ["book", "bounds"], "bar_holds": ["book", "bounds", "value"],
         "most_of": ["book", "bounds", "window"], "least_of": ["book", "bounds", "window"],
     },
+    "shortest": {
+        "least_cost": ["book", "costs"], "best_counts": ["book", "costs"], "best_ring": ["book", "costs"],
+        "shortest": ["book"], "prices": ["book", "costs"], "prices_hold": ["book", "costs", "cost", "value"],
+        "is_best": ["book", "costs", "counts"], "cheaper": ["book", "costs", "counts"],
+    },
+    "numbers": {
+        "many": ["book", "counts"], "many_from": ["book", "counts", "piece"], "rings_many": ["book", "counts"],
+        "nth": ["book", "counts", "number"], "place": ["book", "counts", "ring"],
+        "following": ["book", "counts", "ring"], "trees": ["book", "counts", "place"],
+    },
+    "spare": {
+        "needed": ["book"], "may_go": ["book", "windows"], "largest_lots": ["book"], "round_ring": ["book"],
+        "rest": ["book"], "joined": ["book", "more"], "least_join": ["book"],
+    },
+    "texts": {"show_book": ["book"], "show_counts": ["book", "counts"], "show_paper": ["value"]},
+    "reading": {"read_book": ["text"]},
 }
-LIBRARY = {"itertools": ["combinations"]}
+# The classes of the interface, but for errors, with their methods.
+CLASSES = {
+    "live": {"Live": {
+        "__init__": ["size", "windows"], "put": ["window"], "take": ["window"], "back": [], "book": [], "has_ring": [],
+        "is_sure": ["piece"], "shortest": [], "needed": [], "longest": [], "twin": [], "__len__": [],
+        "__eq__": ["other"],
+    }},
+    "desk": {"Desk": {"__init__": [], "execute": ["line"]}},
+}
+PROPERTIES = {"Live": ["size", "windows", "story"]}
+LIBRARY = {"itertools": ["combinations"], "math": ["factorial", "gcd"]}
 BUILTINS = [
     "len", "range", "enumerate", "zip", "min", "max", "sum", "abs", "sorted", "reversed", "int", "str", "bool", "list",
-    "tuple", "dict", "set", "isinstance", "ord", "repr", "any", "all", "divmod", "ValueError",
+    "tuple", "dict", "set", "isinstance", "ord", "repr", "any", "all", "divmod", "ValueError", "property",
 ]
 METHODS = [
-    "append", "endswith", "extend", "find", "get", "index", "insert", "items", "join", "keys", "pop", "remove",
-    "reverse", "setdefault", "split", "startswith", "update", "values",
+    "append", "endswith", "extend", "find", "get", "index", "insert", "items", "join", "keys", "partition", "pop",
+    "remove", "reverse", "setdefault", "split", "startswith", "update", "values", "zfill",
 ]
 
 
@@ -77,6 +103,22 @@ class InterfaceTest(unittest.TestCase):
                     self.assertIs(parameter.default, inspect.Parameter.empty)
 
 
+    def test_each_method_is_defined_in_its_class(self):
+        trees = {name: tree for name, _, tree in sources()}
+        for module, classes in CLASSES.items():
+            for name, methods in classes.items():
+                there = trees[module + ".py"].body
+                own = [node for node in there if isinstance(node, ast.ClassDef) and node.name == name]
+                self.assertEqual([len(own), own[0].bases], [1, []], name)
+                told = {node.name: node for node in own[0].body if isinstance(node, ast.FunctionDef)}
+                for method, parameters in methods.items():
+                    self.assertEqual([arg.arg for arg in told[method].args.args], ["self"] + parameters, method)
+                    self.assertFalse(told[method].args.defaults + told[method].decorator_list, method)
+                for method in PROPERTIES.get(name, []):
+                    self.assertEqual([part.id for part in told[method].decorator_list], ["property"], method)
+                    self.assertEqual(len([node for node in own[0].body if getattr(node, "name", "") == method]), 1)
+
+
 class FormTest(unittest.TestCase):
     def test_files(self):
         for name, text, _ in sources():
@@ -91,14 +133,14 @@ class FormTest(unittest.TestCase):
             for node in ast.walk(tree):
                 if isinstance(node, ast.FunctionDef):
                     self.assertLessEqual(node.end_lineno - node.lineno + 1, 40, node.name)
-                    self.assertFalse(node.decorator_list)
-                    self.assertIsNotNone(ast.get_docstring(node) if node.name != "__init__" else "", node.name)
+                    self.assertIn([part.id for part in node.decorator_list], ([], ["property"]), node.name)
+                    self.assertIsNotNone(ast.get_docstring(node) if node.name[:2] != "__" else "", node.name)
 
     def test_modules_hold_definitions_alone(self):
         for name, _, tree in sources():
             self.assertIsNotNone(ast.get_docstring(tree), name)
             for node in tree.body[1:]:
-                self.assertIsInstance(node, (ast.ImportFrom, ast.FunctionDef, ast.ClassDef), name)
+                self.assertIsInstance(node, (ast.ImportFrom, ast.FunctionDef, ast.ClassDef, ast.Assign), name)
                 if isinstance(node, ast.ImportFrom):
                     self.assertTrue(all(alias.name != "*" and alias.asname is None for alias in node.names))
                     if node.module in LIBRARY:
@@ -128,13 +170,14 @@ class FormTest(unittest.TestCase):
 
     def test_names_and_methods(self):
         barred = [name for name in dir(builtins) if not name.startswith("_")]
+        methods = METHODS + [method for classes in CLASSES.values() for own in classes.values() for method in own]
         for name, _, tree in sources():
             for node in ast.walk(tree):
                 if isinstance(node, ast.Name):
                     self.assertTrue(node.id not in barred or node.id in BUILTINS, (name, node.id))
                     self.assertTrue(isinstance(node.ctx, ast.Load) or node.id not in barred, (name, node.id))
                 if isinstance(node, ast.Call) and isinstance(node.func, ast.Attribute):
-                    self.assertIn(node.func.attr, METHODS, name)
+                    self.assertIn(node.func.attr, methods, name)
                 if isinstance(node, (ast.FunctionDef, ast.arg)):
                     own = node.name if isinstance(node, ast.FunctionDef) else node.arg
                     self.assertNotIn(own, barred, name)

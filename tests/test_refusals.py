@@ -2,17 +2,24 @@
 
 import unittest
 
-from tests.helper import BOOK, NO_RING, assert_refused, faulty_books, faulty_bounds, faulty_counts, odd_objects
+from tests.helper import BOOK, NO_RING, assert_refused, faulty_books, faulty_bounds, faulty_costs, faulty_counts
+from tests.helper import odd_objects
 from surepieces.books import closed_lot, fits, has_ring, is_closed_lot, is_piece, least_turn, places, ring_windows
 from surepieces.books import is_book, is_ring, some_ring, stands_in, way, windows_of
 from surepieces.counts import balance, bar, bar_holds, counts_between, counts_of, least_of, most_of, ring_of
-from surepieces.errors import Endless, InvalidBook, InvalidBounds, InvalidCounts, InvalidPiece, InvalidRing, InvalidSize
-from surepieces.errors import NoRing, NotWithin
+from surepieces.errors import Endless, InvalidBook, InvalidBounds, InvalidCosts, InvalidCounts, InvalidNumber
+from surepieces.errors import InvalidPiece, InvalidPlace, InvalidRing, InvalidSize, InvalidWindows, NoRing, NoRingText
+from surepieces.errors import NotBalanced, NotWithin
 from surepieces.longest import is_endless, longer, longest, longest_with, plain_pieces
+from surepieces.numbers import following, many, many_from, nth, place, rings_many, trees
 from surepieces.several import fewest, needed, one_is_sure, without_all
+from surepieces.shortest import best_counts, best_ring, cheaper, is_best, least_cost, prices, prices_hold, shortest
+from surepieces.spare import joined, largest_lots, least_join, may_go, needed as needed_windows, rest, round_ring
 from surepieces.sure import is_leaving, is_sure, leaving, paper_holds, sure_paper, without
 
 BOUNDS = ((3, 4), (1, 9), (1, 1), (0, 9), (0, 9))
+ONES = (1, 1, 1, 1, 1)
+COUNTS = (3, 2, 1, 2, 1)
 
 # Each function with right arguments, by the names of its parameters in their sequence.
 BOOKS_CALLS = [
@@ -56,6 +63,33 @@ COUNTS_CALLS = [
     (most_of, {"book": BOOK, "bounds": BOUNDS, "window": "ca"}),
     (least_of, {"book": BOOK, "bounds": BOUNDS, "window": "ca"}),
 ]
+SHORTEST_CALLS = [
+    (least_cost, {"book": BOOK, "costs": ONES}),
+    (best_counts, {"book": BOOK, "costs": ONES}),
+    (best_ring, {"book": BOOK, "costs": ONES}),
+    (shortest, {"book": BOOK}),
+    (prices, {"book": BOOK, "costs": ONES}),
+    (prices_hold, {"book": BOOK, "costs": ONES, "cost": 6, "value": (1, 0, 1, 1)}),
+    (is_best, {"book": BOOK, "costs": ONES, "counts": COUNTS}),
+    (cheaper, {"book": BOOK, "costs": ONES, "counts": COUNTS}),
+]
+NUMBERS_CALLS = [
+    (many, {"book": BOOK, "counts": COUNTS}),
+    (many_from, {"book": BOOK, "counts": COUNTS, "piece": "abd"}),
+    (rings_many, {"book": BOOK, "counts": COUNTS}),
+    (nth, {"book": BOOK, "counts": COUNTS, "number": 3}),
+    (place, {"book": BOOK, "counts": COUNTS, "ring": "abdabcabc"}),
+    (following, {"book": BOOK, "counts": COUNTS, "ring": "abdabcabc"}),
+    (trees, {"book": BOOK, "counts": COUNTS, "place": "a"}),
+]
+SPARE_CALLS = [
+    (may_go, {"book": BOOK, "windows": ("bd", "da")}),
+    (largest_lots, {"book": BOOK}),
+    (round_ring, {"book": BOOK}),
+    (joined, {"book": BOOK, "more": ("aa", "zz")}),
+    (least_join, {"book": BOOK}),
+]
+SPARE_RINGED_CALLS = [(needed_windows, {"book": BOOK}), (rest, {"book": BOOK})]
 OTHER_CALLS = [
     (windows_of, {"size": 2, "text": "abc"}),
     (ring_windows, {"size": 2, "ring": "abc"}),
@@ -63,15 +97,16 @@ OTHER_CALLS = [
     (least_turn, {"ring": "abc"}),
 ]
 # Those that refuse a book that no ring text fits.
-RINGED_CALLS = SURE_CALLS + LONGEST_CALLS + SEVERAL_CALLS
-BOOK_CALLS = BOOKS_CALLS + RINGED_CALLS + COUNTS_CALLS
+RINGED_CALLS = SURE_CALLS + LONGEST_CALLS + SEVERAL_CALLS + SHORTEST_CALLS + SPARE_RINGED_CALLS
+BOOK_CALLS = BOOKS_CALLS + RINGED_CALLS + COUNTS_CALLS + NUMBERS_CALLS + SPARE_CALLS
 CALLS = BOOK_CALLS + OTHER_CALLS
 
-# What each parameter is refused by; that called value is judged, not refused.
+# What each parameter is refused by; one called value is judged, and a cost is any integer: these are not refused.
 ERRORS = {
     "book": InvalidBook, "ring": InvalidRing, "size": InvalidSize, "text": InvalidRing, "piece": InvalidPiece,
     "one": InvalidPiece, "other": InvalidPiece, "window": InvalidPiece, "pieces": InvalidPiece,
-    "counts": InvalidCounts, "bounds": InvalidBounds,
+    "counts": InvalidCounts, "bounds": InvalidBounds, "costs": InvalidCosts, "number": InvalidNumber,
+    "place": InvalidPlace, "windows": InvalidWindows, "more": InvalidWindows,
 }
 
 
@@ -103,7 +138,7 @@ class RefusalsTest(unittest.TestCase):
                     self.refuses(InvalidRing, ring, function, put(named, ring=ring))
 
     def test_faulty_pieces_of_the_book(self):
-        for function, named in SURE_CALLS + [(longer, {"book": BOOK, "piece": "cabd"})]:
+        for function, named in SURE_CALLS + [(longer, {"book": BOOK, "piece": "cabd"}), NUMBERS_CALLS[1]]:
             for piece in odd_objects() + ["a", "b", "ac", "abca ", "abdc", "ba", ("ab",), ["ab"], "abCa", "xyz"]:
                 self.refuses(InvalidPiece, piece, function, put(named, piece=piece))
 
@@ -133,14 +168,55 @@ class RefusalsTest(unittest.TestCase):
                 self.refuses(InvalidPiece, window, function, put(named, window=window))
 
     def test_faulty_counts(self):
-        for counts in faulty_counts(5):
-            for function in (balance, ring_of):
-                self.refuses(InvalidCounts, counts, function, {"book": BOOK, "counts": counts})
+        for function, named in CALLS:
+            if "counts" in named:
+                for counts in faulty_counts(5):
+                    self.refuses(InvalidCounts, counts, function, put(named, counts=counts))
+
+    def test_faulty_costs(self):
+        for function, named in SHORTEST_CALLS:
+            if "costs" in named:
+                for costs in faulty_costs(5):
+                    self.refuses(InvalidCosts, costs, function, put(named, costs=costs))
+
+    def test_counts_that_do_not_balance_or_have_a_0(self):
+        for function, named in SHORTEST_CALLS[-2:]:
+            for counts in (ONES, (2, 2, 0, 2, 0), (0, 0, 0, 0, 0)):
+                self.refuses(NotBalanced, counts, function, put(named, counts=counts))
+
+    def test_counts_of_no_ring_text(self):
+        for function, named in NUMBERS_CALLS:
+            for counts in (ONES, (0, 0, 0, 0, 0), (1, 0, 0, 0, 0)):
+                self.refuses(NoRingText, counts, function, put(named, counts=counts))
+
+    def test_faulty_numbers_and_places(self):
+        for number in (-1, -2, -10 ** 40):
+            self.refuses(InvalidNumber, number, nth, {"book": BOOK, "counts": COUNTS, "number": number})
+        for spot in odd_objects() + ["ba", "e", ("a",), ["a"], "A", ["a", ["b"]]]:
+            self.refuses(InvalidPlace, spot, trees, {"book": BOOK, "counts": COUNTS, "place": spot})
+
+    def test_pieces_longer_than_the_readings(self):
+        self.assertEqual(many_from(BOOK, COUNTS, "abcabcabd"), 1)
+        for piece in ("abcabcabda", "abcabcabcabc"):
+            self.refuses(InvalidPiece, piece, many_from, {"book": BOOK, "counts": COUNTS, "piece": piece})
+
+    def test_faulty_tuples_of_windows(self):
+        wrong = [["bd"], ("da", "bd"), ("bd", "bd"), BOOK[1], (["bd"],), ("bd", ["da"]), [["bd"]]]
+        for windows in odd_objects() + wrong:
+            self.refuses(InvalidWindows, windows, may_go, {"book": BOOK, "windows": windows})
+        wrong = [["aa"], ("zz", "aa"), ("aa", "aa"), ("ab",), (["aa"],), ("aa", ["zz"]), [["aa"]]]
+        for more in odd_objects() + wrong:
+            self.refuses(InvalidWindows, more, joined, {"book": BOOK, "more": more})
 
     def test_faulty_bounds(self):
         for bounds in faulty_bounds(5):
             for function, named in COUNTS_CALLS[3:]:
                 self.refuses(InvalidBounds, bounds, function, put(named, bounds=bounds))
+
+    def test_ring_texts_that_are_none_of_the_readings(self):
+        for ring in ("abcabd", "a", "xyz", "abcabcabc"):
+            for function in (place, following):
+                self.refuses(NotWithin, ring, function, {"book": BOOK, "counts": COUNTS, "ring": ring})
 
     def test_ring_texts_with_other_windows(self):
         for ring in ("abcab", "a", "xyz"):
@@ -184,10 +260,10 @@ class RefusalsTest(unittest.TestCase):
                 self.refuses(NoRing, book, function, put(named, book=book, piece=first, window=first, pieces=[first]))
 
     def test_two_wrong_ones_are_refused_by_the_first(self):
-        wrong = ["A", []]
         for function, named in CALLS:
-            names = [name for name in named if name != "value"]
+            names = [name for name in named if name not in ("value", "cost")]
             for at, first in enumerate(names):
+                wrong = -1 if first == "number" else ["A", []]
                 value = wrong[0] if first == "pieces" else wrong
                 self.refuses(ERRORS[first], value, function, put(named, **{first: wrong}))
                 for last in list(named)[at + 1:]:
@@ -202,15 +278,16 @@ class RefusalsTest(unittest.TestCase):
     def test_no_ring_stands_behind_invalid_book_and_ahead_of_invalid_piece(self):
         for function, named in RINGED_CALLS:
             for piece in ("xx", None, [["ab"]], "ba"):
-                other = put(named, piece=piece, window=piece, pieces=[piece])
+                other = put(named, piece=piece, window=piece, pieces=[piece], costs=piece, counts=piece)
                 self.refuses(NoRing, NO_RING, function, put(other, book=NO_RING))
                 self.refuses(InvalidBook, (2, ["ab"]), function, put(other, book=(2, ["ab"])))
 
     def test_no_ring_is_for_some_files_alone(self):
         right = {"book": NO_RING, "value": ("b",), "ring": "bb", "one": "ab", "other": "bb", "window": "bb",
-                 "counts": (0, 1), "bounds": ((0, 1), (1, 2))}
-        for function, named in BOOKS_CALLS + COUNTS_CALLS:
-            function(**{name: right[name] for name in named})
+                 "counts": (0, 2), "bounds": ((0, 1), (1, 2)), "piece": "bb", "number": 0, "place": "b",
+                 "windows": ("ab",), "more": ("ba",)}
+        for function, named in BOOKS_CALLS + COUNTS_CALLS + NUMBERS_CALLS + SPARE_CALLS:
+            function(**{name: right[name] if name != "value" else ("b",) for name in named})
 
     def test_what_is_judged_is_refused_by_none(self):
         for value in odd_objects() + faulty_books():
@@ -222,6 +299,7 @@ class RefusalsTest(unittest.TestCase):
             self.assertIs(is_leaving(BOOK, "cabc", value), False)
             self.assertIs(paper_holds(BOOK, "cabd", value), False)
             self.assertIs(bar_holds(BOOK, BOUNDS, value), False)
+            self.assertIs(prices_hold(BOOK, ONES, 6, value), False)
             self.assertEqual(repr(value), before)
 
     def test_dicts_and_sets_in_a_refused_object_are_as_they_were(self):
@@ -233,7 +311,8 @@ class ListsTest(unittest.TestCase):
     def test_each_list_that_is_returned_is_new(self):
         for function, args in ((places, (BOOK,)), (windows_of, (2, "abcab")), (ring_windows, (2, "abcabd")),
                                (longer, (BOOK, "ab")), (longest, (BOOK,)), (longest_with, (BOOK, "ca")),
-                               (plain_pieces, (BOOK,)), (needed, (BOOK, ["cabc", "cabd"]))):
+                               (plain_pieces, (BOOK,)), (needed, (BOOK, ["cabc", "cabd"])), (needed_windows, (BOOK,)),
+                               (largest_lots, (BOOK,))):
             one = function(*args)
             other = function(*args)
             self.assertIs(type(one), list)
@@ -251,7 +330,7 @@ class ListsTest(unittest.TestCase):
 
     def test_what_is_told_whether_is_true_or_false(self):
         for function in (is_piece, fits, has_ring, is_closed_lot, is_sure, is_leaving, paper_holds, stands_in,
-                         is_endless, one_is_sure, balance, bar_holds):
+                         is_endless, one_is_sure, balance, bar_holds, prices_hold, is_best, may_go):
             named = dict(CALLS_BY_NAME[function.__name__])
             self.assertIn(type(function(**named)), (bool,))
 
